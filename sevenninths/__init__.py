@@ -1,0 +1,1 @@
+"""Group maps that are wrong at few places, and put right by votes."""

@@ -1,0 +1,49 @@
+import ast
+import inspect
+import importlib
+import pathlib
+import unittest
+
+FUNCTIONS = {}
+CLASSES = {
+    "shares": {"Share": {"__init__": "top bottom", "__eq__": "other", "__add__": "other", "__sub__": "other",
+                         "__mul__": "other", "below": "other", "power": "k", "of": "part whole", "written": ""}},
+    "groups": {"Group": {"__init__": "table", "__eq__": "other", "commutative": None, "product": "x y",
+                         "inverse": "x", "order": "x", "power": "x k"}},
+}
+FOLDER = pathlib.Path(__file__).parent.parent / "sevenninths"
+
+
+def names(function):
+    return " ".join(name for name in inspect.signature(function).parameters if name != "self")
+
+
+def defined(module):
+    """The functions and classes that stand in the very file of a module."""
+    rows = ast.parse((FOLDER / f"{module}.py").read_text()).body
+    return {row.name for row in rows if isinstance(row, (ast.FunctionDef, ast.ClassDef))}
+
+
+class InterfaceTest(unittest.TestCase):
+    def test_functions(self):
+        for module, functions in FUNCTIONS.items():
+            for name, told in functions.items():
+                self.assertIn(name, defined(module))
+                function = getattr(importlib.import_module(f"sevenninths.{module}"), name)
+                self.assertEqual(names(function), told, name)
+
+    def test_classes(self):
+        for module, classes in CLASSES.items():
+            for name, methods in classes.items():
+                self.assertIn(name, defined(module))
+                kind = getattr(importlib.import_module(f"sevenninths.{module}"), name)
+                for method, told in methods.items():
+                    self.assertIn(method, vars(kind))
+                    if told is None:
+                        self.assertIsInstance(vars(kind)[method], property)
+                    else:
+                        self.assertEqual(names(getattr(kind, method)), told, method)
+        self.assertIsInstance(vars(importlib.import_module("sevenninths.shares").Share)["of"], classmethod)
+
+    def test_errors_are_defined_in_their_file(self):
+        self.assertEqual(len(defined("errors")), 13)
