@@ -1,6 +1,6 @@
 """The kinds of values that several modules ask for."""
 
-from sevenninths.errors import InvalidNumber
+from sevenninths.errors import InvalidMap, InvalidNumber, InvalidSubset
 
 
 def is_whole(value):
@@ -23,6 +23,25 @@ def is_member(group, value):
     return is_within(value, 0, group.size - 1)
 
 
+def is_member_row(group, value, length):
+    """Whether value is a tuple of so many elements of the group."""
+    if not isinstance(value, tuple) or len(value) != length:
+        return False
+    return all([is_member(group, x) for x in value])
+
+
+def is_subset(group, value):
+    """Whether value is a rising tuple of elements of the group."""
+    if not isinstance(value, tuple) or not is_member_row(group, value, len(value)):
+        return False
+    return all([value[place - 1] < value[place] for place in range(1, len(value))])
+
+
+def is_map(one, other, value):
+    """Whether value is a tuple of one.size elements of other."""
+    return is_member_row(other, value, one.size)
+
+
 def require_within(value, least, most):
     """Raise InvalidNumber unless value is an integer from least to most."""
     if not is_within(value, least, most):
@@ -33,3 +52,15 @@ def require_member(group, value):
     """Raise InvalidNumber unless value is an element of the group."""
     if not is_member(group, value):
         raise InvalidNumber(value)
+
+
+def require_subset(group, value):
+    """Raise InvalidSubset unless value is a subset of the group."""
+    if not is_subset(group, value):
+        raise InvalidSubset(value)
+
+
+def require_map(one, other, value):
+    """Raise InvalidMap unless value is a map of (one, other)."""
+    if not is_map(one, other, value):
+        raise InvalidMap(value)

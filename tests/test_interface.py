@@ -4,7 +4,18 @@ import importlib
 import pathlib
 import unittest
 
-FUNCTIONS = {}
+FUNCTIONS = {
+    "madegroups": {"cyclic_group": "n", "product_group": "one other", "vector_group": "base length",
+                   "dihedral_group": "n", "symmetric_group": "k", "quaternion_group": "",
+                   "renamed_group": "group order"},
+    "subsets": {"generated": "group subset", "is_subgroup": "group subset", "subgroups": "group",
+                "generators": "group", "left_cosets": "group subset", "right_cosets": "group subset",
+                "is_normal": "group subset", "factor_group": "group subset"},
+    "grouptexts": {"write_group": "group", "read_group": "text"},
+    "homs": {"first_broken": "one other f", "is_hom": "one other f", "hom_from": "one other subset values",
+             "all_homs": "one other", "kernel": "one other f", "image": "one other f", "agreement": "f g",
+             "greatest_agreement": "one other"},
+}
 CLASSES = {
     "shares": {"Share": {"__init__": "top bottom", "__eq__": "other", "__add__": "other", "__sub__": "other",
                          "__mul__": "other", "below": "other", "power": "k", "of": "part whole", "written": ""}},
