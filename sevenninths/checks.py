@@ -13,6 +13,11 @@ def is_within(value, least, most):
     return is_whole(value) and least <= value <= most
 
 
+def is_from(value, least):
+    """Whether value is an integer from least on."""
+    return is_whole(value) and value >= least
+
+
 def is_sequence(value):
     """Whether value is a tuple or a list."""
     return isinstance(value, (tuple, list))
@@ -45,6 +50,12 @@ def is_map(one, other, value):
 def require_within(value, least, most):
     """Raise InvalidNumber unless value is an integer from least to most."""
     if not is_within(value, least, most):
+        raise InvalidNumber(value)
+
+
+def require_from(value, least):
+    """Raise InvalidNumber unless value is an integer from least on."""
+    if not is_from(value, least):
         raise InvalidNumber(value)
 
 

@@ -6,7 +6,7 @@ from sevenninths.checks import is_member_row, require_map
 from sevenninths.errors import InvalidMap, TooMany, Undefined
 from sevenninths.subsets import generated, generators
 
-_MOST_ROWS = 20000
+MOST_ROWS = 20000
 _MOST_COMPARED_ROWS = 1000
 
 
@@ -72,7 +72,7 @@ def value_rows(one, other, most):
 
 def all_homs(one, other):
     """All homomorphisms from one to other, ascending."""
-    return _homs_of_rows(one, other, value_rows(one, other, _MOST_ROWS))
+    return _homs_of_rows(one, other, value_rows(one, other, MOST_ROWS))
 
 
 def _homs_of_rows(one, other, rows):

@@ -2,8 +2,8 @@
 
 from itertools import permutations
 
-from sevenninths.checks import is_member_row, is_whole, require_within
-from sevenninths.errors import InvalidNumber, InvalidSubset, TooMany
+from sevenninths.checks import is_member_row, require_from, require_within
+from sevenninths.errors import InvalidSubset, TooMany
 from sevenninths.groups import MOST_MEMBERS, Group
 
 _MOST_TURNS = 24
@@ -28,8 +28,7 @@ def product_group(one, other):
 def vector_group(base, length):
     """The tuples of so many numbers below base, each as the number that has them for its digits."""
     require_within(base, 2, MOST_MEMBERS)
-    if not is_whole(length) or length < 1:
-        raise InvalidNumber(length)
+    require_from(length, 1)
     digit = cyclic_group(base)
     group = digit
     placed = 1

@@ -15,6 +15,13 @@ FUNCTIONS = {
     "homs": {"first_broken": "one other f", "is_hom": "one other f", "hom_from": "one other subset values",
              "all_homs": "one other", "kernel": "one other f", "image": "one other f", "agreement": "f g",
              "greatest_agreement": "one other"},
+    "certificates": {"homs_certificate": "one other", "homs_certificate_holds": "one other certificate"},
+    "maps": {"broken": "one other f", "broken_share": "one other f", "wrong_places": "f g", "votes": "one other f x",
+             "voted": "one other f", "equal_votes": "one other f x", "least_broken": "n w", "most_broken": "n w",
+             "nearest_homs": "one other f"},
+    "ninths": {"is_sure": "one other f", "hom_of": "one other f", "close_hom": "one other f", "border_map": "j",
+               "most_near": "alike places size"},
+    "twoproducts": {"products_apart": "one other", "renaming": "one other", "nine_pair": ""},
 }
 CLASSES = {
     "shares": {"Share": {"__init__": "top bottom", "__eq__": "other", "__add__": "other", "__sub__": "other",
