@@ -22,12 +22,20 @@ FUNCTIONS = {
     "ninths": {"is_sure": "one other f", "hom_of": "one other f", "close_hom": "one other f", "border_map": "j",
                "most_near": "alike places size"},
     "twoproducts": {"products_apart": "one other", "renaming": "one other", "nine_pair": ""},
+    "sampling": {"right_share": "one other f x k", "wrong_share": "one other f x k", "silent_share": "one other f x k",
+                 "passing_share": "one other f k", "samples_for": "share"},
+    "signs": {"signs": "n f", "broken_bits": "n f", "best_linear": "n f"},
+    "nearbits": {"weight": "n f beginning", "near_linear": "n f t", "near_certificate": "n f t",
+                 "near_certificate_holds": "n f t certificate"},
 }
 CLASSES = {
     "shares": {"Share": {"__init__": "top bottom", "__eq__": "other", "__add__": "other", "__sub__": "other",
                          "__mul__": "other", "below": "other", "power": "k", "of": "part whole", "written": ""}},
     "groups": {"Group": {"__init__": "table", "__eq__": "other", "commutative": None, "product": "x y",
                          "inverse": "x", "order": "x", "power": "x k"}},
+    "boxes": {"Box": {"__init__": "table", "ask": "x", "asks": None, "__len__": ""},
+              "Corrector": {"__init__": "one other box", "answer": "x samples"},
+              "Tester": {"__init__": "one other box", "test": "pairs"}},
 }
 FOLDER = pathlib.Path(__file__).parent.parent / "sevenninths"
 

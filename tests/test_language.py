@@ -20,7 +20,7 @@ BARRED = set("register mro elements open input law version_info with_traceback a
              "compile copyright credits delattr dir eval exec exit gc globals help id importlib license locals "
              "methodcaller os quit type vars sys".split())
 SPECIAL = {"__init__", "__eq__", "__repr__", "__str__", "__len__", "__add__", "__radd__", "__sub__", "__rsub__",
-           "__mul__", "__rmul__"}
+           "__mul__", "__rmul__", "__len__"}
 METHODS = set("append clear copy count endswith extend find get index insert isalnum isalpha isdigit islower isspace "
               "isupper items join keys ljust lower lstrip partition pop remove replace reverse rfind rjust "
               "rpartition rsplit rstrip setdefault split splitlines startswith strip update upper values zfill "
