@@ -56,10 +56,7 @@ class Corrector:
         counts = [0] * self._other.size
         for y in samples:
             counts[self._vote(x, y)] += 1
-        most = max(counts)
-        if 2 * most <= len(samples):
-            return None
-        return counts.index(most)
+        return majority(counts)
 
     def _vote(self, x, y):
         """What the box has at xy times the inverse of what it has at y, asked in this order."""
@@ -67,11 +64,22 @@ class Corrector:
         return self._other.product(product, self._other.inverse(self.box.ask(y)))
 
 
+def majority(counts):
+    """The place whose count is more than half of all, or None."""
+    most = max(counts)
+    if 2 * most <= sum(counts):
+        return None
+    return counts.index(most)
+
+
+def has_sample_count(value):
+    """Whether value is a tuple of an odd number, at most 49, of any members."""
+    return isinstance(value, tuple) and len(value) % 2 == 1 and len(value) <= _MOST_SAMPLES
+
+
 def _is_samples(group, value):
     """Whether value is a tuple of an odd number, at most 49, of elements of the group."""
-    if not isinstance(value, tuple) or len(value) % 2 == 0 or len(value) > _MOST_SAMPLES:
-        return False
-    return is_member_row(group, value, len(value))
+    return has_sample_count(value) and is_member_row(group, value, len(value))
 
 
 class Tester:

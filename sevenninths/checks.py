@@ -18,9 +18,21 @@ def is_from(value, least):
     return is_whole(value) and value >= least
 
 
+def is_prime(value, most):
+    """Whether value is a prime that is most at most."""
+    return is_within(value, 2, most) and all([value % part != 0 for part in range(2, value)])
+
+
 def is_sequence(value):
     """Whether value is a tuple or a list."""
     return isinstance(value, (tuple, list))
+
+
+def is_number_row(value, length, bound):
+    """Whether value is a tuple of so many numbers below bound."""
+    if not isinstance(value, tuple) or len(value) != length:
+        return False
+    return all([is_within(x, 0, bound - 1) for x in value])
 
 
 def is_member(group, value):
@@ -30,9 +42,7 @@ def is_member(group, value):
 
 def is_member_row(group, value, length):
     """Whether value is a tuple of so many elements of the group."""
-    if not isinstance(value, tuple) or len(value) != length:
-        return False
-    return all([is_member(group, x) for x in value])
+    return is_number_row(value, length, group.size)
 
 
 def is_subset(group, value):
@@ -56,6 +66,12 @@ def require_within(value, least, most):
 def require_from(value, least):
     """Raise InvalidNumber unless value is an integer from least on."""
     if not is_from(value, least):
+        raise InvalidNumber(value)
+
+
+def require_prime(value, most):
+    """Raise InvalidNumber unless value is a prime that is most at most."""
+    if not is_prime(value, most):
         raise InvalidNumber(value)
 
 

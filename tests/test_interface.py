@@ -27,6 +27,11 @@ FUNCTIONS = {
     "signs": {"signs": "n f", "broken_bits": "n f", "best_linear": "n f"},
     "nearbits": {"weight": "n f beginning", "near_linear": "n f t", "near_certificate": "n f t",
                  "near_certificate_holds": "n f t certificate"},
+    "steps": {"differences": "p f", "degree": "p f", "broken_steps": "p d f", "step_votes": "p d f x", "is_near": "p d f"},
+    "curves": {"close_curve": "p d f", "value_at": "p curve x", "wrong_on": "p curve f"},
+    "tables": {"times": "p one other", "rank": "p matrix", "passes_column": "p one other told column",
+               "columns_passing": "p one other told"},
+    "doublebox": {"factor_of": "p f", "product_votes": "p f x y"},
 }
 CLASSES = {
     "shares": {"Share": {"__init__": "top bottom", "__eq__": "other", "__add__": "other", "__sub__": "other",
@@ -36,6 +41,7 @@ CLASSES = {
     "boxes": {"Box": {"__init__": "table", "ask": "x", "asks": None, "__len__": ""},
               "Corrector": {"__init__": "one other box", "answer": "x samples"},
               "Tester": {"__init__": "one other box", "test": "pairs"}},
+    "doublebox": {"DoubleBox": {"__init__": "p f", "ask": "x y", "asks": None, "corrected": "x y samples"}},
 }
 FOLDER = pathlib.Path(__file__).parent.parent / "sevenninths"
 
