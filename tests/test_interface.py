@@ -4,6 +4,11 @@ import importlib
 import pathlib
 import unittest
 
+from sevenninths.boxes import Box, Corrector, Tester
+from sevenninths.desk import Desk
+from sevenninths.groups import Group
+from sevenninths.shares import Share
+
 FUNCTIONS = {
     "madegroups": {"cyclic_group": "n", "product_group": "one other", "vector_group": "base length",
                    "dihedral_group": "n", "symmetric_group": "k", "quaternion_group": "",
@@ -32,6 +37,10 @@ FUNCTIONS = {
     "tables": {"times": "p one other", "rank": "p matrix", "passes_column": "p one other told column",
                "columns_passing": "p one other told"},
     "doublebox": {"factor_of": "p f", "product_votes": "p f x y"},
+    "quotients": {"left_quotients": "group subset", "right_quotients": "group subset", "is_tight": "group subset",
+                  "coset_of": "group subset"},
+    "desk": {"replayed_desk": "one other lines"},
+    "histories": {"history_of": "desk", "history_holds": "text", "history_end": "text"},
 }
 CLASSES = {
     "shares": {"Share": {"__init__": "top bottom", "__eq__": "other", "__add__": "other", "__sub__": "other",
@@ -42,6 +51,9 @@ CLASSES = {
               "Corrector": {"__init__": "one other box", "answer": "x samples"},
               "Tester": {"__init__": "one other box", "test": "pairs"}},
     "doublebox": {"DoubleBox": {"__init__": "p f", "ask": "x y", "asks": None, "corrected": "x y samples"}},
+    "keeping": {"Kept": {"__init__": "one other f", "change": "x value", "votes": "x", "row": None, "broken": None,
+                         "sure": None}},
+    "desk": {"Desk": {"__init__": "one other", "run": "line"}},
 }
 FOLDER = pathlib.Path(__file__).parent.parent / "sevenninths"
 
@@ -76,6 +88,15 @@ class InterfaceTest(unittest.TestCase):
                     else:
                         self.assertEqual(names(getattr(kind, method)), told, method)
         self.assertIsInstance(vars(importlib.import_module("sevenninths.shares").Share)["of"], classmethod)
+
+    def test_attributes_are_set_when_an_object_is_made(self):
+        two = Group([[0, 1], [1, 0]])
+        box = Box((0, 1))
+        for made, told in ((Share(2, 4), {"top": 1, "bottom": 2}), (two, {"size": 2, "table": ((0, 1), (1, 0)), "neutral": 0}),
+                           (box, {"table": (0, 1)}), (Corrector(two, two, box), {"box": box}), (Tester(two, two, box), {"box": box}),
+                           (Desk(two, two), {"one": two, "other": two, "table": (0, 0), "lines": ()})):
+            for name, value in told.items():
+                self.assertEqual(vars(made)[name], value)
 
     def test_errors_are_defined_in_their_file(self):
         self.assertEqual(len(defined("errors")), 13)
