@@ -1,5 +1,7 @@
 """How often samples tell what is right: exact shares among all rows of samples."""
 
+from math import comb
+
 from sevenninths.checks import is_within, require_member
 from sevenninths.errors import InvalidNumber, TooMany, Undefined
 from sevenninths.maps import broken_share, votes
@@ -64,7 +66,15 @@ def passing_share(one, other, f, k):
 
 def samples_for(share):
     """The least odd number of marks, each right with 2/3, that have a right majority with this share at least."""
+    # Each mark is one of three, two of which are right: of all rows of k marks, so many have a right majority.
+    rows = 3
+    right = 2
     for k in range(1, _MOST_MARKS + 1, 2):
-        if not _majority_share(2, 3, k).below(share):
+        if right * share.bottom >= share.top * rows:
             return k
+        # Two more marks, nine pairs, matter only where the right ones are one ahead or one behind: the first
+        # is lost by one pair of the nine, the second is won by four of them. Half as many rows are one behind
+        # as are one ahead; so on the whole one is won for each row that is one ahead.
+        right = 9 * right + (comb(k, k // 2) << (k // 2 + 1))
+        rows = 9 * rows
     raise TooMany("samples")

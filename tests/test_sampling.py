@@ -1,5 +1,6 @@
 import itertools
 import math
+import time
 import unittest
 from fractions import Fraction
 
@@ -22,6 +23,11 @@ def fraction(share):
     """The share as Python's own fraction, which must be the same in lowest terms."""
     assert share.bottom > 0 and math.gcd(share.top, share.bottom) == 1
     return Fraction(share.top, share.bottom)
+
+
+def share_of(told):
+    """Python's own fraction as a Share."""
+    return Share(told.numerator, told.denominator)
 
 
 def majority(part, whole, k):
@@ -203,14 +209,47 @@ class SamplesForTest(unittest.TestCase):
             before = share
         for share in (before + little, before + Fraction(1, 10 ** 9), Fraction(9999, 10000), 1 - little):
             for _ in range(2):
-                error = raised(TooMany, samples_for, Share(share.numerator, share.denominator))
+                error = raised(TooMany, samples_for, share_of(share))
                 self.assertEqual(error.what, "samples")
 
     def told(self, share):
-        given = Share(share.numerator, share.denominator)
+        given = share_of(share)
         found = samples_for(share=given)
         self.assertEqual(samples_for(given), found)
         return found
+
+    def test_the_edges_of_each_odd_number(self):
+        # Of 3 ** k rows of marks so many have a right majority; so these shares, and one row of more marks beyond.
+        shares = [majority(2, 3, k) for k in range(1, 100, 2)]
+        for k, share, following in zip(range(1, 100, 2), shares, shares[1:] + [None]):
+            for step in (Fraction(1, 3 ** k), Fraction(1, 3 ** (k + 2)), Fraction(1, 10 ** 350)):
+                self.assertEqual(self.told(share), k)
+                self.assertLessEqual(self.told(share - step), k)
+                if following is None:
+                    self.assertEqual(raised(TooMany, samples_for, share_of(share + step)).what, "samples")
+                else:
+                    self.assertGreaterEqual(self.told(min(share + step, following)), k + 2)
+            self.assertEqual(self.told(share - Fraction(1, 10 ** 350)), k)
+            if following is not None:
+                self.assertEqual(self.told(share + Fraction(1, 10 ** 350)), k + 2)
+                self.assertEqual(self.told((share + following) / 2), k + 2)
+        two_thirds = Fraction(2, 3)
+        for share in (two_thirds, two_thirds - Fraction(1, 10 ** 350), Fraction(1, 2), Fraction(0), Fraction(-7, 3)):
+            self.assertEqual(self.told(share), 1)
+
+    def test_many_calls_are_quick(self):
+        start = time.process_time()
+        for _ in range(1000):
+            self.assertEqual(samples_for(Share(9995, 10000)), 93)
+            raised(TooMany, samples_for, Share(9999, 10000))
+        # Shares of all sizes, and those of which a call has most to reckon.
+        found = [self.told(Fraction(top, 10007)) for top in range(0, 9998, 3)]
+        self.assertEqual((found, found[0], found[-1] > 80), (sorted(found), 1, True))
+        longest = Share(9995 * 10 ** 395 + 1, 10 ** 399)
+        for _ in range(1000):
+            self.assertEqual(samples_for(longest), 93)
+            raised(TooMany, samples_for, Share(10 ** 399 - 1, 10 ** 399))
+        self.assertLess(time.process_time() - start, 3)
 
     def test_at_0_and_below(self):
         for share in (Share(0, 1), Share(0, 5), Share(-1, 3), Share(-10 ** 399, 1), Share(-1, 10 ** 399), Share(1, 2)):
