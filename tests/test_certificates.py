@@ -266,3 +266,23 @@ class WordTest(unittest.TestCase):
         self.check(words(2, 2), cyclic(3), (1, 0), ((), (0, 0)), True)
         self.check(words(2, 2), cyclic(3), (1, 0), ((1, 1), ()), False)
         self.check(words(2, 2), cyclic(3), (1, 0), ((0, 1, 0), (1,)), True)
+
+    def test_words_of_unlike_products_in_one(self):
+        for one, other in ((cyclic(4), cyclic(6)), (cyclic(2), cyclic(3)), (words(2, 2), cyclic(3)),
+                           (permutations(3), cyclic(2)), (quaternions(), words(2, 2))):
+            chosen = generators(Group(one))
+            certificate = homs_certificate(Group(one), Group(other))
+            words_told = [word for count in range(4) for word in itertools.product(range(len(chosen)), repeat=count)]
+            met = set()
+            # A row with a homomorphism has no clash, whatever words are told.
+            for place in {[part[0] for part in certificate].index("clash"), 0, len(certificate) - 1}:
+                values = certificate[place][1]
+                for pair in itertools.product(words_told, repeat=2):
+                    part = ("clash", values, pair)
+                    told = is_right(one, other, chosen, values, part)
+                    changed = replaced(certificate, place, part)
+                    self.assertIs(homs_certificate_holds(Group(one), Group(other), changed), told, pair)
+                    met.add(told)
+            self.assertIn(False, met)
+        self.check(cyclic(4), cyclic(6), (1,), ((0,), ()), False)
+        self.check(cyclic(4), cyclic(6), (1,), ((0,), (0, 0)), False)
