@@ -78,11 +78,9 @@ def _tell_near(desk, values):
 _DEEDS = {"put": _put, "hom": _hom, "right": _right}
 _QUESTIONS = {"broken": _tell_broken, "share": _tell_share, "sure": _tell_sure, "vote": _tell_vote,
               "votes": _tell_votes, "wrong": _tell_wrong, "near": _tell_near}
-_NUMBER = "number"
-_LIST = "list"
 # The forms of the words that stand behind the first word of a line.
-_FORMS = {"put": (_NUMBER, _NUMBER), "hom": (_LIST,), "right": (), "broken": (), "share": (), "sure": (),
-          "vote": (_NUMBER,), "votes": (_NUMBER,), "wrong": (), "near": (), "undo": (), "redo": ()}
+_FORMS = {"put": ("number", "number"), "hom": ("list",), "right": (), "broken": (), "share": (), "sure": (),
+          "vote": ("number",), "votes": ("number",), "wrong": (), "near": (), "undo": (), "redo": ()}
 
 
 class Desk:
@@ -170,7 +168,7 @@ def _read_word(form, word):
     """The integer or the tuple of integers that a word tells, or None if it is not of its form."""
     # Looked up as they are written, so a needless 0, a plus or a foreign figure is refused.
     written = {str(number): number for number in range(-_MOST_WRITTEN, _MOST_WRITTEN + 1)}
-    if form == _NUMBER:
+    if form == "number":
         return written.get(word, None)
     if word == NO_NUMBERS:
         return ()
